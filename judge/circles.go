@@ -3,19 +3,13 @@ package judge
 import (
 	"relay/api"
 	"relay/links"
+	"relay/order"
 	"relay/tree"
 )
 
 // cycle finds the first equation that hangs on itself, in however many steps.
 func cycle(p *tree.Program) (int, bool) {
-	hangs := square(len(p.Decls))
-	for i, d := range p.Decls {
-		for _, n := range p.Nodes[d.Root:d.End] {
-			if n.Kind == tree.Name && !n.Delayed {
-				hangs[i][n.Decl] = true
-			}
-		}
-	}
+	hangs := order.Hangs(p)
 	follow(hangs)
 	for i, d := range p.Decls {
 		if hangs[i][i] {

@@ -5,6 +5,8 @@ import (
 	"relay/api"
 	"relay/judge"
 	"relay/lay"
+	"relay/links"
+	"relay/streams"
 )
 
 // Check tells whether a text is right, and where it is not (P3).
@@ -23,10 +25,25 @@ func Print(text string) (string, api.Errno) {
 }
 
 // Links tells the links of a program (P5).
-func Links(text string) ([]api.Route, api.Errno) { return nil, api.OK }
+func Links(text string) ([]api.Route, api.Errno) {
+	p, e, _ := judge.Text(text)
+	if e != api.OK {
+		return nil, e
+	}
+	return links.Of(&p), api.OK
+}
 
 // Streams tells the values of the equations at the first n instants (P6).
-func Streams(text string, ins [][]int, n int) ([][]int, api.Errno) { return nil, api.OK }
+func Streams(text string, ins [][]int, n int) ([][]int, api.Errno) {
+	p, e, _ := judge.Text(text)
+	if e != api.OK {
+		return nil, e
+	}
+	if n < 0 || n > api.MaxInstants {
+		return nil, api.ErrArg
+	}
+	return streams.Of(&p, ins, n), api.OK
+}
 
 // Exec is the machine (P7).
 func Exec(c api.Code, n int, cells []int, ins []int, links []int) ([]int, []int, api.Errno) {
