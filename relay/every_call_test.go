@@ -2,6 +2,7 @@ package relay
 
 import (
 	"fmt"
+	"math/rand"
 	"reflect"
 	"strings"
 	"sync"
@@ -36,6 +37,14 @@ func allEnd(t *testing.T, text string) {
 		if len(row) != 3 {
 			t.Fatalf("P1: Streams(%.200q) has the row %v", text, row)
 		}
+	}
+	place := len(text)%6 - 1
+	c, ec := Code(text, place)
+	if e != api.OK && ec != e || e == api.OK && ec != api.OK && ec != api.ErrPlace {
+		t.Fatalf("P1: Code(%.200q, %d): %d, want the error %d", text, place, ec, e)
+	}
+	if (ec == api.OK) != (len(c.Out) > 0) || ec != api.OK && len(c.Ops)+len(c.Cells)+len(c.Next) != 0 {
+		t.Fatalf("P1: Code(%.200q, %d) = %v, %d", text, place, c, ec)
 	}
 }
 
@@ -95,6 +104,9 @@ func TestTooLongIsFoundByLength(t *testing.T) {
 		if rows, e := Streams(text, nil, -1); e != api.ErrLong || len(rows) != 0 {
 			t.Errorf("P1: Streams of %d bytes = %v, %d", len(text), rows, e)
 		}
+		if c, e := Code(text, -1); e != api.ErrLong || len(c.Ops) != 0 {
+			t.Errorf("P1: Code of %d bytes = %v, %d", len(text), c, e)
+		}
 	})
 	if made != 0 {
 		t.Errorf("P1: a text that is too long makes %v allocations", made)
@@ -103,13 +115,15 @@ func TestTooLongIsFoundByLength(t *testing.T) {
 
 // What other calls were told, ahead of a call or beside it, changes nothing.
 func TestAnswersHangOnArgumentsAlone(t *testing.T) {
-	texts := []string{"", "in a;", "in a ;int x at 02=((007 fby x)+a);", "int a at 0=true;", "bool a at 0=true;", "int x at 0=a;", "in a", filled("", api.MaxText+1), "int x at 0=(0 fby (y+1));int y at 1=x;"}
+	texts := []string{"", "in a;", "in a ;int x at 02=((007 fby x)+a);", "int a at 0=true;", "bool a at 0=true;", "int x at 0=a;", "in a", filled("", api.MaxText+1), "int x at 0=(0 fby (y+1));int y at 1=x;", "int x at 0=((4 fby y)+(5 fby x));int y at 1=(x+1);"}
 	ask := func(text string) string {
 		e, at := Check(text)
 		printed, ep := Print(text)
 		routes, el := Links(text)
 		rows, es := Streams(text, [][]int{{1, 2}}, len(text)%5-1)
-		return fmt.Sprint(e, at, printed, ep, routes, el, rows, es)
+		c, ec := Code(text, len(text)%3)
+		out, next, ex := Exec(c, len(text)%2, c.Cells, []int{1, 2}, []int{3})
+		return fmt.Sprint(e, at, printed, ep, routes, el, rows, es, c, ec, out, next, ex)
 	}
 	first := make([]string, len(texts))
 	for i, text := range texts {
@@ -219,5 +233,134 @@ func TestLinksShareNothing(t *testing.T) {
 	want := []api.Route{prompt(0, 1), late(0, 2)}
 	if !reflect.DeepEqual(second, want) || !reflect.DeepEqual(third, want) {
 		t.Errorf("P2: links are %v and %v when others have changed", second, third)
+	}
+}
+
+// Exec at wild arguments ends, and tells of code that is too long without going through it.
+func TestExecEnds(t *testing.T) {
+	r := rand.New(rand.NewSource(6))
+	for range 20000 {
+		c := api.Code{Cells: anyNumbers(r, r.Intn(3)), Next: anyNumbers(r, r.Intn(3)), Out: anyNumbers(r, r.Intn(3))}
+		for range r.Intn(6) {
+			c.Ops = append(c.Ops, api.Op{Kind: r.Intn(17) - 1, A: anyNumber(r), B: anyNumber(r), C: anyNumber(r)})
+		}
+		out, next, e := Exec(c, anyNumber(r), anyNumbers(r, r.Intn(3)), anyNumbers(r, r.Intn(3)), anyNumbers(r, r.Intn(3)))
+		if e != api.OK && e != api.ErrCode && e != api.ErrArg || e != api.OK && len(out)+len(next) != 0 {
+			t.Fatalf("P1: Exec(%v, ..) = %v, %v, %d", c, out, next, e)
+		}
+	}
+	many, long := make([]api.Op, 1<<20), make([]int, 1<<20)
+	made := testing.AllocsPerRun(100, func() {
+		for _, c := range [3]api.Code{{Ops: many}, {Ops: many[:1], Cells: long, Next: long}, {Ops: many[:1], Out: long}} {
+			if out, next, e := Exec(c, 0, c.Cells, nil, nil); e != api.ErrCode || len(out)+len(next) != 0 {
+				t.Errorf("P1: Exec of %s = %d", described(c), e)
+			}
+		}
+	})
+	if made != 0 {
+		t.Errorf("P1: code that is too long makes %v allocations", made)
+	}
+}
+
+// step: arguments of Exec, with spare room behind each list, and nothing of it empty.
+type step struct {
+	c                api.Code
+	cells, ins, wire []int
+}
+
+func handedStep() step {
+	ops := []api.Op{{Kind: api.Cell}, {Kind: api.In}, {Kind: api.Link}, {Kind: api.First}, {Kind: api.Add, A: 0, B: 1}, {Kind: api.Const, A: 8}, {Kind: api.Const, A: 9}}
+	c := api.Code{Ops: ops[:5], Cells: []int{1, 2, 3, 4}[:2], Next: []int{4, 2, 5, 6}[:2], Out: []int{3, 4, 0, 5, 6}[:3]}
+	return step{c, []int{11, 12, 13, 14}[:2], []int{21, 22, 23}[:1], []int{31, 32, 33}[:1]}
+}
+
+// whole: all that is handed in, with what stands in the spare room.
+func (s step) whole() string {
+	lists := [][]int{}
+	for _, list := range [][]int{s.c.Cells, s.c.Next, s.c.Out, s.cells, s.ins, s.wire} {
+		lists = append(lists, list[:cap(list)])
+	}
+	return fmt.Sprint(s.c.Ops[:cap(s.c.Ops)], lists)
+}
+
+// Whether it answers or tells of an error; and the lists that come out may be written into.
+func TestExecWritesIntoNothing(t *testing.T) {
+	for _, n := range []int{-1, 0, 1, most} {
+		for cells := range 4 {
+			for _, kind := range []int{api.Cell, api.Const, -1, 15} {
+				s, want := handedStep(), handedStep()
+				s.c.Ops[0].Kind, want.c.Ops[0].Kind = kind, kind
+				out, next, _ := Exec(s.c, n, s.cells[:cells], s.ins, s.wire)
+				if s.whole() != want.whole() {
+					t.Errorf("P2: Exec(.., %d, ..) leaves %s", n, s.whole())
+				}
+				fill(out, -9)
+				fill(next, -9)
+				if s.whole() != want.whole() {
+					t.Errorf("P2: what comes out of Exec(.., %d, ..) shares something with what is handed in: %s", n, s.whole())
+				}
+			}
+		}
+	}
+}
+
+func TestExecSharesNothing(t *testing.T) {
+	s := handedStep()
+	for _, same := range [][]int{{}, {4}, {4, 0}} {
+		s.c.Cells, s.c.Next, s.c.Out = make([]int, len(same)+1), append([]int{1}, same...), append([]int{1}, same...)
+		cells := []int{11, 12, 13}[:len(same)+1]
+		want, _, e := Exec(s.c, 0, cells, s.ins, s.wire)
+		if e != api.OK || len(want) == 0 {
+			t.Fatalf("P7: Exec(%v, ..): %v, %d", s.c, want, e)
+		}
+		first, second, _ := Exec(s.c, 0, cells, s.ins, s.wire)
+		fill(first, -9)
+		third, fourth, _ := Exec(s.c, 0, cells, s.ins, s.wire)
+		fill(fourth, -9)
+		fill(s.ins, -9)
+		fill(cells, -9)
+		for _, list := range [][]int{second, third} {
+			if !reflect.DeepEqual(list, want) {
+				t.Errorf("P2: %v came out, and is %v when other lists have changed", want, list)
+			}
+		}
+	}
+}
+
+// wipe writes into one list of code, and its spare room.
+func wipe(c api.Code, which int) {
+	fill([][]int{nil, c.Cells, c.Next, c.Out}[which], -9)
+	ops := c.Ops[:cap(c.Ops)]
+	for i := range ops {
+		if which == 0 {
+			ops[i] = api.Op{Kind: -9}
+		}
+	}
+}
+
+func TestCodeSharesNothing(t *testing.T) {
+	for _, text := range []string{"int x at 1=3;", "in a;int x at 1=(2 fby a);int y at 1=(x+(3 fby y));", "int x at 0=1;int y at 1=((4 fby x)+(1 fby (2 fby y)));int z at 1=(5 fby (x+y));"} {
+		want, e := Code(text, 1)
+		if e != api.OK {
+			t.Fatalf("P8: Code(%q, 1): error %d", text, e)
+		}
+		for which := range 4 {
+			first, _ := Code(text, 1)
+			second, _ := Code(text, 1)
+			wipe(first, which)
+			third, _ := Code(text, 1)
+			if !reflect.DeepEqual(second, want) || !reflect.DeepEqual(third, want) {
+				t.Errorf("P2: Code(%q, 1) is %v and %v when another answer has changed", text, second, third)
+			}
+			wipe(second, which)
+			for _, part := range [2]api.Code{first, second} {
+				whole := []bool{reflect.DeepEqual(part.Ops, want.Ops), reflect.DeepEqual(part.Cells, want.Cells), reflect.DeepEqual(part.Next, want.Next), reflect.DeepEqual(part.Out, want.Out)}
+				for list, is := range whole {
+					if list != which && !is {
+						t.Errorf("P2: lists %d and %d of Code(%q, 1) share something", which, list, text)
+					}
+				}
+			}
+		}
 	}
 }

@@ -6,6 +6,8 @@ import (
 	"relay/judge"
 	"relay/lay"
 	"relay/links"
+	"relay/machine"
+	"relay/steps"
 	"relay/streams"
 )
 
@@ -47,11 +49,21 @@ func Streams(text string, ins [][]int, n int) ([][]int, api.Errno) {
 
 // Exec is the machine (P7).
 func Exec(c api.Code, n int, cells []int, ins []int, links []int) ([]int, []int, api.Errno) {
-	return nil, nil, api.OK
+	return machine.Exec(c, machine.Step{N: n, Cells: cells, Ins: ins, Links: links})
 }
 
 // Code writes the step program of a place (P8).
-func Code(text string, place int) (api.Code, api.Errno) { return api.Code{}, api.OK }
+func Code(text string, place int) (api.Code, api.Errno) {
+	p, e, _ := judge.Text(text)
+	if e != api.OK {
+		return api.Code{}, e
+	}
+	c := steps.For(&p, place)
+	if len(c.Out) == 0 {
+		return api.Code{}, api.ErrPlace
+	}
+	return c, api.OK
+}
 
 // Valid tells whether a script keeps to bounds (P9).
 func Valid(text string, b api.Bounds, script []api.Act) api.Errno { return api.OK }
