@@ -1,7 +1,6 @@
 package judge
 
 import (
-	"relay/api"
 	"relay/links"
 	"relay/order"
 	"relay/tree"
@@ -21,29 +20,14 @@ func cycle(p *tree.Program) (int, bool) {
 
 // loop finds the first equation at a place that waits for itself, in however many steps.
 func loop(p *tree.Program) (int, bool) {
-	equations := p.Equations()
-	waits := square(api.MaxPlaces)
-	for _, r := range links.Of(p) {
-		if !r.Late {
-			from := equations[r.From].Place
-			waits[r.To][from] = true
-		}
-	}
+	waits := links.Waits(p)
 	follow(waits)
-	for _, d := range equations {
+	for _, d := range p.Equations() {
 		if waits[d.Place][d.Place] {
 			return d.At, true
 		}
 	}
 	return 0, false
-}
-
-func square(n int) [][]bool {
-	rows := make([][]bool, n)
-	for i := range rows {
-		rows[i] = make([]bool, n)
-	}
-	return rows
 }
 
 // follow adds to what leads in one step what leads in several. It is enough to let each in turn be the one in between.

@@ -33,10 +33,10 @@ func TestWrongTextHasNone(t *testing.T) {
 
 // rows: a row for each thing, x where it leads.
 func rows(lines ...string) [][]bool {
-	leads := square(len(lines))
+	leads := make([][]bool, len(lines))
 	for i, line := range lines {
 		for k := range line {
-			leads[i][k] = line[k] == 'x'
+			leads[i] = append(leads[i], line[k] == 'x')
 		}
 	}
 	return leads

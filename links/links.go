@@ -40,3 +40,19 @@ func uses(p *tree.Program, decl int, place int) (bool, bool) {
 	}
 	return used, prompt
 }
+
+// Waits tells in row q which places the place q waits for.
+func Waits(p *tree.Program) [][]bool {
+	waits := make([][]bool, api.MaxPlaces)
+	for i := range waits {
+		waits[i] = make([]bool, api.MaxPlaces)
+	}
+	equations := p.Equations()
+	for _, r := range Of(p) {
+		if !r.Late {
+			from := equations[r.From].Place
+			waits[r.To][from] = true
+		}
+	}
+	return waits
+}

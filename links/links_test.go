@@ -33,3 +33,18 @@ func TestOf(t *testing.T) {
 		}
 	}
 }
+
+func TestWaits(t *testing.T) {
+	p, at, ok := tree.Parse("int x at 0=(0 fby w);int y at 1=x;int z at 1=(0 fby (x+1));int w at 3=(y+(0 fby x));int v at 3=w;")
+	if !ok {
+		t.Fatalf("a fault at %d", at)
+	}
+	want := make([][]bool, api.MaxPlaces)
+	for i := range want {
+		want[i] = make([]bool, api.MaxPlaces)
+	}
+	want[1][0], want[3][1] = true, true
+	if got := Waits(&p); !reflect.DeepEqual(got, want) {
+		t.Errorf("who waits for whom: %v, want %v", got, want)
+	}
+}

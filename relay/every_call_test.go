@@ -4,6 +4,7 @@ import (
 	"fmt"
 	"math/rand"
 	"reflect"
+	"slices"
 	"strings"
 	"sync"
 	"testing"
@@ -45,6 +46,31 @@ func allEnd(t *testing.T, text string) {
 	}
 	if (ec == api.OK) != (len(c.Out) > 0) || ec != api.OK && len(c.Ops)+len(c.Cells)+len(c.Next) != 0 {
 		t.Fatalf("P1: Code(%.200q, %d) = %v, %d", text, place, c, ec)
+	}
+	scriptsEnd(t, text, ec)
+}
+
+// scriptsEnd makes the calls that go with scripts and bounds. The place of the script is that of which Code tells coded.
+func scriptsEnd(t *testing.T, text string, coded api.Errno) {
+	t.Helper()
+	e := coded
+	if coded == api.ErrPlace {
+		e = api.ErrScript
+	}
+	place := len(text)%6 - 1
+	s := [2]api.Act{{Place: place}, {Place: place, At: 1}}
+	b := api.Bounds{Tmin: 1, Tmax: 1}
+	if got := Valid(text, b, s[:]); got != e {
+		t.Fatalf("P1: Valid(%.200q, .., %v) = %d, want %d", text, s, got, e)
+	}
+	if events, got := Run(text, [][]int{{1, 2}}, s[:]); got != e || e == api.OK && len(events) != 2 || e != api.OK && len(events) != 0 {
+		t.Fatalf("P1: Run(%.200q, .., %v) = %v, %d, want the error %d", text, s, events, got, e)
+	}
+	if coded == api.ErrPlace {
+		e = api.OK
+	}
+	if at, got := Latest(text, b, 1); got != e || (e == api.OK) != (at > 0) || e != api.OK && at != 0 {
+		t.Fatalf("P1: Latest(%.200q, .., 1) = %d, %d, want the error %d", text, at, got, e)
 	}
 }
 
@@ -91,6 +117,7 @@ func TestTextsOfOnePart(t *testing.T) {
 // A text that is too long costs no more for being longer: nothing of it is read or copied.
 func TestTooLongIsFoundByLength(t *testing.T) {
 	text := strings.Repeat("in a;", 1<<20)
+	long := make([]api.Act, 1<<20)
 	made := testing.AllocsPerRun(100, func() {
 		if e, at := Check(text); e != api.ErrLong || at != 0 {
 			t.Errorf("P1: Check of %d bytes = %d, %d", len(text), e, at)
@@ -106,6 +133,15 @@ func TestTooLongIsFoundByLength(t *testing.T) {
 		}
 		if c, e := Code(text, -1); e != api.ErrLong || len(c.Ops) != 0 {
 			t.Errorf("P1: Code of %d bytes = %v, %d", len(text), c, e)
+		}
+		if e := Valid(text, api.Bounds{}, long); e != api.ErrLong {
+			t.Errorf("P1: Valid of %d bytes = %d", len(text), e)
+		}
+		if at, e := Latest(text, api.Bounds{}, -1); e != api.ErrLong || at != 0 {
+			t.Errorf("P1: Latest of %d bytes = %d, %d", len(text), at, e)
+		}
+		if events, e := Run(text, nil, long); e != api.ErrLong || len(events) != 0 {
+			t.Errorf("P1: Run of %d bytes: %d events, %d", len(text), len(events), e)
 		}
 	})
 	if made != 0 {
@@ -123,7 +159,11 @@ func TestAnswersHangOnArgumentsAlone(t *testing.T) {
 		rows, es := Streams(text, [][]int{{1, 2}}, len(text)%5-1)
 		c, ec := Code(text, len(text)%3)
 		out, next, ex := Exec(c, len(text)%2, c.Cells, []int{1, 2}, []int{3})
-		return fmt.Sprint(e, at, printed, ep, routes, el, rows, es, c, ec, out, next, ex)
+		b := api.Bounds{Tmin: 1, Tmax: 2, Dmax: len(text) % 2}
+		s := script("0@0 1@0 0@1 1@1 0@2 1@2")
+		latest, et := Latest(text, b, len(text)%5-1)
+		events, er := Run(text, [][]int{{1, 2}}, s)
+		return fmt.Sprint(e, at, printed, ep, routes, el, rows, es, c, ec, out, next, ex, Valid(text, b, s), latest, et, events, er)
 	}
 	first := make([]string, len(texts))
 	for i, text := range texts {
@@ -362,5 +402,133 @@ func TestCodeSharesNothing(t *testing.T) {
 				}
 			}
 		}
+	}
+}
+
+// The calls that go with scripts and bounds end at wild arguments, and tell of a script that is too long without going through it.
+func TestScriptsEnd(t *testing.T) {
+	r := rand.New(rand.NewSource(13))
+	met := map[api.Errno]int{}
+	for range 20000 {
+		b := api.Bounds{Tmin: anyNumber(r), Tmax: anyNumber(r), Dmin: anyNumber(r), Dmax: anyNumber(r)}
+		if r.Intn(2) == 0 {
+			b = madeUpBounds(r)
+		}
+		var s []api.Act
+		for range r.Intn(5) {
+			s = append(s, api.Act{Place: r.Intn(2), At: anyNumber(r), Ack: anyNumber(r), Data: anyNumber(r)})
+		}
+		k := anyNumber(r)
+		e := Valid(counter, b, s)
+		at, el := Latest(counter, b, k)
+		events, er := Run(counter, nil, s)
+		met[e]++
+		met[er]++
+		if (e == api.ErrArg) == secondFit(b) || el != api.OK && el != api.ErrArg || (el == api.OK) != (at > 0) || at < 0 {
+			t.Fatalf("P1: Valid(.., %+v, %v) = %d, Latest(.., %d) = %d, %d", b, s, e, k, at, el)
+		}
+		if er != api.OK && er != api.ErrScript || er == api.OK && len(events) != len(s) || er != api.OK && len(events) != 0 {
+			t.Fatalf("P1: Run(.., %v) = %v, %d", s, events, er)
+		}
+	}
+	for _, e := range []api.Errno{api.OK, api.ErrArg, api.ErrScript} {
+		if met[e] < 500 {
+			t.Errorf("too few of a kind: %v", met)
+		}
+	}
+	long := make([]api.Act, 1<<22)
+	costs := func(s []api.Act) float64 {
+		return testing.AllocsPerRun(50, func() {
+			events, e := Run(counter, nil, s)
+			if ev := Valid(counter, api.Bounds{Tmin: 1, Tmax: 1}, s); e != api.ErrScript || len(events) != 0 || ev != api.ErrScript {
+				t.Errorf("P1: Run of %d acts: %d events, %d; Valid: %d", len(s), len(events), e, ev)
+			}
+		})
+	}
+	if few, many := costs(long[:api.MaxActs+1]), costs(long); few != many {
+		t.Errorf("P1: scripts that are too long make %v and %v allocations", few, many)
+	}
+}
+
+// handedScript: acts with more of them in the spare room.
+func handedScript() []api.Act {
+	return script("0@0 0@1 1@1 1@2 0@2 0@3 0@4 1@5 0@9,9,9 7@7,7,7")[:8]
+}
+
+// noisy: two places with links both ways, several values at each, and inputs.
+const noisy = "in a;int x at 0=((0 fby y)+a);int y at 1=(x+1);int z at 0=(x*2);int w at 1=((3 fby z)-y);"
+
+func TestScriptsAreNotWrittenInto(t *testing.T) {
+	for _, text := range []string{noisy, counter, "", "in a;int x at 0=a;", "int x at 0=true;"} {
+		for size := range 11 {
+			for _, b := range []api.Bounds{{Tmin: 1, Tmax: 9}, {}} {
+				s, ins := handedScript()[:size], handed()
+				Valid(text, b, s)
+				Run(text, ins, s)
+				if !slices.Equal(s[:cap(s)], handedScript()[:cap(s)]) || !reflect.DeepEqual(whole(ins), whole(handed())) {
+					t.Errorf("P2: Valid and Run of %q with %d acts leave %v, %v", text, size, s[:cap(s)], whole(ins))
+				}
+			}
+		}
+	}
+}
+
+// lists: all lists of numbers in events.
+func lists(events []api.Event) [][]int {
+	var all [][]int
+	for _, e := range events {
+		all = append(all, e.Took, e.Values)
+	}
+	return all
+}
+
+func TestRunSharesNothing(t *testing.T) {
+	want, e := Run(noisy, handed(), handedScript())
+	if e != api.OK || shortAll(want) != "S0 P0=1,2 S0<0 P0=2,1<2 S1<1 P1=4,8 W S1<0" {
+		t.Fatalf("P11: Run(%q, ..) = %v, %d", noisy, shortAll(want), e)
+	}
+	for i := range lists(want) {
+		s, ins := handedScript(), handed()
+		first, _ := Run(noisy, ins, s)
+		second, _ := Run(noisy, ins, s)
+		fill(lists(first)[i], -9)
+		for k, list := range lists(first) {
+			if k != i && !slices.Equal(list, lists(want)[k]) {
+				t.Errorf("P2: lists %d and %d of the events share something", i, k)
+			}
+		}
+		third, _ := Run(noisy, ins, s)
+		if !reflect.DeepEqual(second, want) || !reflect.DeepEqual(third, want) {
+			t.Errorf("P2: the events are %v and %v when others have changed", second, third)
+		}
+		if !slices.Equal(s[:cap(s)], handedScript()[:cap(s)]) || !reflect.DeepEqual(whole(ins), whole(handed())) {
+			t.Errorf("P2: the events share something with what is handed in: %v, %v", s[:cap(s)], whole(ins))
+		}
+	}
+}
+
+// What is handed in may change when the call has ended, and the events too: other events stay.
+func TestRunKeepsNothing(t *testing.T) {
+	s, ins := handedScript(), handed()
+	want, _ := Run(noisy, ins, s)
+	first, _ := Run(noisy, ins, s)
+	second, _ := Run(noisy, ins, s)
+	s = s[:cap(s)]
+	for i := range s {
+		s[i] = api.Act{Place: 9, At: 9, Ack: 9, Data: 9}
+	}
+	for i := range ins {
+		fill(ins[i], -9)
+		ins[i] = nil
+	}
+	if !reflect.DeepEqual(first, want) {
+		t.Errorf("P2: the events are %v when what was handed in has changed", first)
+	}
+	first = first[:cap(first)]
+	for i := range first {
+		first[i] = api.Event{Place: 9, At: 9, Did: 9, N: 9}
+	}
+	if !reflect.DeepEqual(second, want) {
+		t.Errorf("P2: the events are %v when others have changed", second)
 	}
 }

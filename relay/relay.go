@@ -2,11 +2,14 @@
 package relay
 
 import (
+	"relay/acts"
 	"relay/api"
+	"relay/bounds"
 	"relay/judge"
 	"relay/lay"
 	"relay/links"
 	"relay/machine"
+	"relay/play"
 	"relay/steps"
 	"relay/streams"
 )
@@ -66,10 +69,40 @@ func Code(text string, place int) (api.Code, api.Errno) {
 }
 
 // Valid tells whether a script keeps to bounds (P9).
-func Valid(text string, b api.Bounds, script []api.Act) api.Errno { return api.OK }
+func Valid(text string, b api.Bounds, script []api.Act) api.Errno {
+	p, e, _ := judge.Text(text)
+	if e != api.OK {
+		return e
+	}
+	if !bounds.Fit(b) {
+		return api.ErrArg
+	}
+	if !acts.Playable(&p, script) || !acts.Keep(script, b) {
+		return api.ErrScript
+	}
+	return api.OK
+}
 
 // Latest tells by when a place makes its step k (P10).
-func Latest(text string, b api.Bounds, k int) (int, api.Errno) { return 0, api.OK }
+func Latest(text string, b api.Bounds, k int) (int, api.Errno) {
+	p, e, _ := judge.Text(text)
+	if e != api.OK {
+		return 0, e
+	}
+	if !bounds.Fit(b) || k < 0 || k > api.MaxInstants {
+		return 0, api.ErrArg
+	}
+	return bounds.Latest(&p, b, k), api.OK
+}
 
 // Run plays the places when they wake (P11).
-func Run(text string, ins [][]int, script []api.Act) ([]api.Event, api.Errno) { return nil, api.OK }
+func Run(text string, ins [][]int, script []api.Act) ([]api.Event, api.Errno) {
+	p, e, _ := judge.Text(text)
+	if e != api.OK {
+		return nil, e
+	}
+	if !acts.Playable(&p, script) {
+		return nil, api.ErrScript
+	}
+	return play.Run(&p, ins, script), api.OK
+}
